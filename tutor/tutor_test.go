@@ -24,8 +24,8 @@ func wrongConfigs() []api.Config {
 
 // TestP1AllEnd: whatever they are given, the calls end and do not panic.
 func TestP1AllEnd(t *testing.T) {
-	for _, c := range wrongConfigs() {
-		for _, data := range []string{"", "\xff", "1234", strings.Repeat("\x7f\xc0\x00\x00", 1000)} {
+	for _, c := range append(wrongConfigs(), plain()) {
+		for _, data := range []string{"", "\xff", "1234", fitting(plain()), strings.Repeat("\x7f\xc0\x00\x00", 1000)} {
 			for _, n := range []int{math.MinInt, -1, 0, 1, 400, math.MaxInt} {
 				Check(c, data)
 				Pick(c, n, n)
