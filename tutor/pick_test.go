@@ -73,7 +73,7 @@ func TestP8PickGreatest(t *testing.T) {
 	}
 }
 
-// TestP8PickWrong: no samples, too many, and places below 0. The seed is one that would not pick 0 at these places.
+// TestP8PickWrong: no samples, too many, and places below 0. So many places are asked because a wrong one may pick 0 by chance.
 func TestP8PickWrong(t *testing.T) {
 	c := api.Config{Seed: 2}
 	for _, samples := range []int{math.MinInt, -16, -1, 0, 17, 18, math.MaxInt} {
