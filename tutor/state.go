@@ -37,3 +37,18 @@ func (s *state) text() string {
 	text = appendWords(text, s.second...)
 	return string(text)
 }
+
+// readState is the state of a text; nil: the text is none of a state with so many parameters.
+func readState(text string, parameters int) *state {
+	if len(text) != wordBytes*(1+3*parameters) {
+		return nil
+	}
+	l := words(text)
+	steps, l := l[0], l[1:]
+	return &state{
+		steps:      int(steps),
+		parameters: l[:parameters],
+		first:      l[parameters : 2*parameters],
+		second:     l[2*parameters:],
+	}
+}

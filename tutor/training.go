@@ -32,6 +32,31 @@ func newTraining(c api.Config, data string) *training {
 // begin is the state ahead of all steps.
 func (t *training) begin() *state { return firstState(t.c.Seed, t.net.Parameters()) }
 
+// saves: is the state behind so many steps to be saved?
+func (t *training) saves(steps int) bool { return steps%t.c.Every == 0 || steps == t.c.Steps }
+
+// read is the state of a text; nil: it is none that is saved in this training.
+func (t *training) read(text string) *state {
+	s := readState(text, t.net.Parameters())
+	if s == nil || !within(s.steps, 0, t.c.Steps) || !t.saves(s.steps) {
+		return nil
+	}
+	return s
+}
+
+// send sends the numbers of the samples from a place on to an end, epoch by epoch, and closes the channel.
+func (t *training) send(numbers chan<- int, place int, end int) {
+	defer close(numbers)
+	samples := len(t.samples)
+	var order []int
+	for ; place < end; place++ {
+		if order == nil || place%samples == 0 {
+			order = row(t.c.Seed, samples, place/samples)
+		}
+		numbers <- order[place%samples]
+	}
+}
+
 // picks are the numbers of the samples that a step takes.
 func (t *training) picks(step int) []int {
 	picks := make([]int, t.c.Batch)

@@ -2,6 +2,7 @@ package tutor
 
 import (
 	"math"
+	"math/rand"
 	"strings"
 	"testing"
 
@@ -32,8 +33,32 @@ func TestP1AllEnd(t *testing.T) {
 				Pick(c, api.MaxSamples, n)
 				RateAt(c, n)
 				After(c, data, n)
+				useTrainer(c, data, disk.New(), n)
 			}
-			Start(c, data, disk.New())
 		}
+	}
+}
+
+// useTrainer calls all calls of a trainer, if there is one.
+func useTrainer(c api.Config, data string, d *disk.Disk, n int) {
+	x, e := Start(c, data, d)
+	if e != api.OK {
+		return
+	}
+	x.Work(n)
+	x.Step()
+	x.Saved()
+	x.State()
+	x.Trouble()
+}
+
+// TestP1OneDisk: even a disk that is used with several configurations, against the document, lets no call panic.
+func TestP1OneDisk(t *testing.T) {
+	r := rand.New(rand.NewSource(18))
+	d := disk.New()
+	for range 3000 {
+		c := anyConfig(r)
+		c.Layers, c.Wide, c.Every = 1, [4]int{1, 1 + r.Intn(2)}, 1+r.Intn(4)
+		useTrainer(c, fitting(c), d, r.Intn(8)-1)
 	}
 }

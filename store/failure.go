@@ -1,0 +1,18 @@
+package store
+
+import "strconv"
+
+// Failure is what the disk told, with what was being done (as in api.Trouble) and at which step.
+type Failure struct {
+	Doing int
+	Step  int
+	Err   error
+}
+
+// Error tells all three.
+func (f *Failure) Error() string {
+	return "doing " + strconv.Itoa(f.Doing) + " at step " + strconv.Itoa(f.Step) + ": " + f.Err.Error()
+}
+
+// Unwrap is what the disk told.
+func (f *Failure) Unwrap() error { return f.Err }
