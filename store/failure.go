@@ -2,7 +2,10 @@ package store
 
 import "strconv"
 
-// Failure is what the disk told, with what was being done (as in api.Trouble) and at which step.
+// reading is beside what api.Trouble counts: a reading that fails makes no trainer spent.
+const reading = 0
+
+// Failure is what the disk told, with what was being done (as in api.Trouble; 0 a reading) and at which step.
 type Failure struct {
 	Doing int
 	Step  int

@@ -12,11 +12,11 @@ const (
 	coming = "coming"
 )
 
-// Find tells the text that was saved last; it is empty if there is none, or if it was bent. It fails just if the disk is down.
-func Find(d *disk.Disk) (string, error) {
+// Find tells the text that was saved last; it is empty if there is none, or if it was bent. It fails just if the disk is down; the step is told then.
+func Find(d *disk.Disk, step int) (string, error) {
 	file, e := d.Read(saved)
 	if e == api.ErrDown {
-		return "", e
+		return "", &Failure{Doing: reading, Step: step, Err: e}
 	}
 	return unsealed(file), nil
 }

@@ -14,7 +14,7 @@ const old, young = "what was saved first", "what was saved behind it, and is lon
 // find is what Find tells of a disk that is not down.
 func find(t *testing.T, d *disk.Disk) string {
 	t.Helper()
-	s, err := Find(d)
+	s, err := Find(d, 1)
 	if err != nil {
 		t.Fatalf("Find: %v", err)
 	}
@@ -43,9 +43,11 @@ func TestP11Find(t *testing.T) {
 		}
 	}
 	d.Limit(0, -1)
-	if s, err := Find(d); s != "" || !errors.Is(err, api.ErrDown) {
-		t.Errorf("on a disk that is down: %q, %v", s, err)
+	s, err := Find(d, 7)
+	if s != "" {
+		t.Errorf("on a disk that is down: %q", s)
 	}
+	holds(t, err, api.ErrDown, 7, reading)
 }
 
 // TestP15Names: there is one name behind a Save, never more than two in it, and no file is much longer than its text.

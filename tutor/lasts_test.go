@@ -22,7 +22,7 @@ type world struct {
 func (w *world) start(t *testing.T) {
 	t.Helper()
 	x, e := Start(w.c, w.data, w.d)
-	if e == api.ErrDisk && x == nil {
+	if _, down := w.d.Names(); e == api.ErrDisk && x == nil && down == api.ErrDown {
 		return
 	}
 	if e != api.OK {
@@ -49,7 +49,7 @@ func (w *world) work(t *testing.T, x *Trainer, n int) {
 			t.Fatalf("spent: %d, %d, saved %d, %+v", did, e, x.Saved(), x.Trouble())
 		}
 	case e == api.OK:
-		if did != min(n, w.c.Steps-before) || x.Saved() != max(saved, w.due(step)) || x.Trouble() != (api.Trouble{}) {
+		if did != max(min(n, w.c.Steps-before), 0) || x.Saved() != max(saved, w.due(step)) || x.Trouble() != (api.Trouble{}) {
 			t.Fatalf("Work(%d) behind step %d: %d, saved %d, %+v", n, before, did, x.Saved(), x.Trouble())
 		}
 	default:

@@ -19,13 +19,10 @@ type Trainer struct {
 
 // resume begins with the state that is found on the disk, or with the first one.
 func (x *Trainer) resume() error {
+	x.state = x.training.begin()
 	s, err := x.found()
-	if err != nil {
+	if err != nil || s == nil {
 		return err
-	}
-	if s == nil {
-		x.state = x.training.begin()
-		return nil
 	}
 	x.state, x.saved = s, s.steps
 	return store.Keep(x.disk, s.steps)
@@ -33,7 +30,7 @@ func (x *Trainer) resume() error {
 
 // found is the state that is saved on the disk; nil: there is none.
 func (x *Trainer) found() (*state, error) {
-	text, err := store.Find(x.disk)
+	text, err := store.Find(x.disk, x.state.steps)
 	if err != nil {
 		return nil, err
 	}
